@@ -1,0 +1,38 @@
+"""The interface: each name is defined in the file under which it is listed."""
+
+import ast
+import importlib
+import os
+import unittest
+
+# A class has the list of its methods, a function None.
+LISTED = {
+    "books": {"Book": ["streams", "late", "__eq__"]},
+    "journals": {"Journal": [
+        "__len__", "latest", "then", "heard", "only", "without", "__or__", "rows", "key_names", "__eq__"]},
+    "worlds": {"World": ["rows", "__len__", "__eq__"], "world_of": None},
+    "moments": {
+        "Term": ["__add__", "__sub__", "__or__", "later", "earlier", "__eq__", "streams"],
+        "Now": [], "Last": [], "Next": [], "Shift": [], "Either": [], "Later": [], "Earlier": []},
+    "amounts": {"Amount": ["__eq__", "streams"], "Number": [], "Count": [], "Total": [], "Gap": []},
+    "answers": {"value": None, "support": None, "seen_from": None},
+}
+
+
+class Interface(unittest.TestCase):
+    def test_each_name_is_defined_in_its_file(self):
+        for name, listed in LISTED.items():
+            module = importlib.import_module("asofhall." + name)
+            with open(module.__file__, encoding="utf-8") as held:
+                body = ast.parse(held.read()).body
+            for word, methods in listed.items():
+                found = [node for node in body if getattr(node, "name", None) == word]
+                self.assertEqual(len(found), 1, word)
+                self.assertIsInstance(found[0], ast.FunctionDef if methods is None else ast.ClassDef)
+                made = [node.name for node in found[0].body if isinstance(node, ast.FunctionDef)]
+                self.assertLessEqual(set(methods or []), set(made), word)
+
+    def test_the_package_holds_no_tests(self):
+        folder = os.path.dirname(importlib.import_module("asofhall").__file__)
+        self.assertIn("__init__.py", os.listdir(folder))
+        self.assertFalse([name for name in os.listdir(folder) if name.startswith("test")])
