@@ -16,6 +16,11 @@ LISTED = {
         "Now": [], "Last": [], "Next": [], "Shift": [], "Either": [], "Later": [], "Earlier": []},
     "amounts": {"Amount": ["__eq__", "streams"], "Number": [], "Count": [], "Total": [], "Gap": []},
     "answers": {"value": None, "support": None, "seen_from": None},
+    "wordings": {"worded": None, "read_question": None},
+    "facts": {"ring": None, "solution": None, "is_ring": None},
+    "verdicts": dict.fromkeys((
+        "alike", "covers", "parting", "lacking", "is_parting", "paper", "cover_paper", "is_paper", "is_cover_paper")),
+    "leads": {"lead": None, "reaching": None, "lead_paper": None, "is_lead_paper": None},
 }
 
 
