@@ -33,6 +33,13 @@ class Book:
         return self._lates[stream]
 
 
+def check_streams(streams, book):
+    """Raises BadName for the least one of the streams that the book does not have."""
+    for stream in sorted(streams):
+        if not book.has(stream):
+            raise BadName(stream)
+
+
 def is_lates(thing):
     """Tells whether the thing is a dict from 1 to 8 names to latenesses."""
     if not isinstance(thing, dict) or not 1 <= len(thing) <= MOST_STREAMS:

@@ -1,9 +1,10 @@
 """Pairs of terms: what is asked of both in one unknown world."""
 
-from asofhall.cases import ONE_WORLD, first_case, steps_of
+from asofhall.cases import ONE_WORLD, first_case
 from asofhall.errors import BadTerm, NoPaper, TooMany
 from asofhall.moments import is_term
 from asofhall.papers import closed, is_closed
+from asofhall.steps import steps_of
 from asofhall.worlds import World
 
 MOST_LOOKS = 4
@@ -20,19 +21,24 @@ def check_pair(one, other):
         raise TooMany()
 
 
+def term_steps(term):
+    """The steps of a term in the one world."""
+    return steps_of(term, {stream: ("look", ONE_WORLD, 0) for stream in term.streams()})
+
+
 def alike_steps(one, other):
     """The steps at whose end the answers differ."""
-    return [*steps_of(one, ONE_WORLD), *steps_of(other, ONE_WORLD), ("differ",), ("end",)]
+    return [*term_steps(one), *term_steps(other), ("differ",), ("end",)]
 
 
 def cover_steps(one, other):
     """The steps at whose end other has an answer and one has none."""
-    return [*steps_of(other, ONE_WORLD), ("need",), *steps_of(one, ONE_WORLD), ("lack",), ("end",)]
+    return [*term_steps(other), ("need",), *term_steps(one), ("lack",), ("end",)]
 
 
 def both_steps(one, other):
     """The steps at whose end both have an answer."""
-    return [*steps_of(one, ONE_WORLD), ("need",), *steps_of(other, ONE_WORLD), ("need",), ("end",)]
+    return [*term_steps(one), ("need",), *term_steps(other), ("need",), ("end",)]
 
 
 def beyond_steps(one, other, n):

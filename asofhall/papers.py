@@ -4,9 +4,10 @@ What is left of a case is a tuple (case, values): the values of its variables
 keep all its facts, and no row lies in a stretch.
 """
 
-from asofhall.cases import CHOICE, FINE, next_place, with_facts
+from asofhall.cases import with_facts
 from asofhall.facts import goes_round, greatest, solved
 from asofhall.kinds import is_integer
+from asofhall.steps import CHOICE, FINE, next_place
 
 # How far something can go: to no value at all, most to a number, or endlessly.
 NEVER = ("never", None)

@@ -103,3 +103,16 @@ def fails(test, error, kept, call, *args):
     else:
         test.fail(f"{error.__name__} was not raised, but {type(told).__name__} was returned")
     test.assertEqual(picture(things), before)
+
+
+def errors_in_order(test, call, good, steps):
+    """Asserts each error alone, and each one while all those behind it apply, too.
+
+    good are arguments that are right; a step is (place, wrong argument, error, what it keeps).
+    """
+    for number, (_, _, error, kept) in enumerate(steps):
+        for wrong in (steps[number:number + 1], steps[number:]):
+            args = list(good)
+            for at, thing, _, _ in reversed(wrong):
+                args[at] = thing
+            fails(test, error, kept, call, *args)

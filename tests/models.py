@@ -137,3 +137,52 @@ def answer(question, rows, now):
         return b - a
     amounts = [row[2] for row in rows.get(question.stream, []) if a < row[0] and row[0] <= b]
     return len(amounts) if isinstance(question, Count) else sum(amounts)
+
+
+def answer_behind(question, entries, key, now):
+    """The answer of a question in the world of the key behind the entries."""
+    rows = {}
+    for stream, place, moment, number, amount in standing(entries):
+        if place == key:
+            rows.setdefault(stream, []).append((moment, number, amount))
+    return answer(question, rows, now)
+
+
+def random_going_on(rng, lates, entries, h, tries):
+    """Good entries with arrivals above h behind those ahead."""
+    found = []
+    for entry in random_entries(rng, lates, tries, entries, h + 1):
+        if entry[-1] > h and good(lates, [*entries, *found], entry):
+            found.append(entry)
+    return found
+
+
+def is_going_on(lates, entries, h, more):
+    """Tells whether more, which are entries, are good behind those ahead, with arrivals above h."""
+    ahead = list(entries)
+    for entry in more:
+        if entry[-1] <= h or not good(lates, ahead, entry):
+            return False
+        ahead.append(entry)
+    return True
+
+
+def random_chain(rng, streams):
+    """A chain over some of the streams, each once."""
+    term = Now()
+    for stream in rng.sample(streams, rng.randrange(len(streams) + 1)):
+        term = Last(stream, term + rng.choice((0, 0, 0, rng.randrange(-4, 5))))
+    return term + rng.choice((0, 0, rng.randrange(-3, 4)))
+
+
+def random_keepable(rng, streams):
+    """A keepable question."""
+    word = rng.randrange(6)
+    if word < 2:
+        return random_chain(rng, streams)
+    if word < 4:
+        term = random_chain(rng, streams)
+        free = [stream for stream in streams if stream not in term.streams()]
+        return Number(rng.choice(free), term) if free else term
+    first, last = Now() + rng.randrange(-5, 4), Now() + rng.randrange(-5, 4)
+    return (Count, Total)[word - 4](rng.choice(streams), first, last)

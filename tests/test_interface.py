@@ -21,6 +21,10 @@ LISTED = {
     "verdicts": dict.fromkeys((
         "alike", "covers", "parting", "lacking", "is_parting", "paper", "cover_paper", "is_paper", "is_cover_paper")),
     "leads": {"lead": None, "reaching": None, "lead_paper": None, "is_lead_paper": None},
+    "waits": dict.fromkeys(("least_wait", "enough_wait", "unsettled", "is_unsettled", "wait_paper", "is_wait_paper")),
+    "finals": {"final": None, "changing": None, "is_changing": None},
+    "needs": {"is_keepable": None, "needed": None, "why_needed": None, "is_why": None},
+    "keepers": {"Keeper": ["feed", "hear", "held", "answer", "copy"]},
 }
 
 
