@@ -8,7 +8,7 @@
 """
 
 from asofhall.cases import COMING, KNOWING, KNOWN, ONE_WORLD, ROW, SETTLED
-from asofhall.cases import apart, gone_on, with_facts, with_row, with_stretch
+from asofhall.cases import apart, gone_on, with_row, with_stretch
 
 
 def look_cases(step, case):
@@ -19,16 +19,16 @@ def look_cases(step, case):
     cases = [with_stretch(gone_on(case, case.answers[:-1], None, ()), stretch)]
     for row, place, kind in case.found:
         if place == stream and kind in kinds:
-            cases.append(row_case(step, case, row))
+            cases.append(row_case(step, kinds, case, row))
     for kind in kinds:
         added = with_row(case, stream, kind, facts_of(kind, case.count, late))
-        cases.append(row_case(step, added, case.count))
+        cases.append(row_case(step, kinds, added, case.count))
     return cases
 
 
-def row_case(step, case, row):
-    """The case in which the look finds this row."""
-    _, is_last, stream, kinds, _ = step
+def row_case(step, kinds, case, row):
+    """The case in which the look finds this row, and ahead of it none of these kinds."""
+    _, is_last, stream, _, _ = step
     end = case.answers[-1]
     if is_last:
         fact = apart(end, (row, 0), 0)
@@ -53,18 +53,14 @@ def facts_of(kind, row, late):
 def seek_cases(step, case):
     """The cases of a look in a world of which the settled rows are known."""
     _, is_last, stream, settled, free = step
-    cases = settled_cases(step, case)
-    highest = ()
+    facts = [apart((case.count, 0), (0, free), 0)]
     if not is_last and len(settled) > 0:
-        # A Next finds such a row only from behind the settled ones.
-        highest = (apart(case.answers[-1], (0, settled[-1]), 1),)
-    for row, place, _ in case.found:
-        if place == stream:
-            cases.append(row_case((*step[:3], ONE_WORLD, 0), with_facts(case, highest), row))
-    facts = (*highest, apart((case.count, 0), (0, free), 0))
+        # A Next finds another row only from behind the settled ones.
+        facts.append(apart(case.answers[-1], (0, settled[-1]), 1))
+    # The row may be at the moment of one that was added before: so there is no
+    # case of its own for these.
     added = with_row(case, stream, ROW, facts)
-    cases.append(row_case((*step[:3], ONE_WORLD, 0), added, case.count))
-    return cases
+    return [*settled_cases(step, case), row_case(step, ONE_WORLD, added, case.count)]
 
 
 def settled_cases(step, case):

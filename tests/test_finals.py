@@ -118,6 +118,20 @@ class Decided(unittest.TestCase):
             self.assertIs(self.decided(question, both, "k", 4, 5), True)
             self.assertIs(self.decided(Last("b", Last("a", NOW)), both, "k", 4, 5), False)
 
+    def test_rows_that_come_between_two_looks(self):
+        # Where the Next finds nothing, the Last finds no row that comes from now on.
+        journal = Journal(BOOK, [row(0, "a", 2, 2), row(1, "a", 5, 5)])
+        self.assertIs(self.decided(AFTER | (Last("a", NOW + 5) + 3), journal, "k", 5, 5), False)
+        self.assertIs(self.decided((AFTER - 3) | Last("a", NOW + 5), journal, "k", 5, 5), False)
+
+    def test_a_next_finds_settled_rows_ahead_of_others(self):
+        journal = Journal(BOOK, [row(0, "a", 2, 2), row(1, "b", 3, 3), row(2, "a", 4, 4), row(3, "a", 6, 6)])
+        for now, flag in [(0, True), (2, True), (3, True), (4, True), (5, False), (6, False)]:
+            self.assertIs(self.decided(AFTER, journal, "k", now, 6), flag, now)
+            self.assertIs(self.decided(Next("a", Last("b", NOW) + 1), journal, "k", now, 6), True, now)
+        for now, flag in [(4, True), (5, True), (6, True), (7, False)]:
+            self.assertIs(self.decided(AFTER, journal, "k", now, 8), flag, now)
+
     def test_lists_of_any_number_of_entries(self):
         more = [row(number, "a", 9, 9, number, "l") for number in range(1, 1000)]
         rows = [row(number, "a", 5, 7, number) for number in range(1000, 2500)]

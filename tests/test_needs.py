@@ -103,6 +103,7 @@ class Needed(unittest.TestCase):
     def test_rows_at_one_moment(self):
         settled = Journal(BOOK, [row(4, "b", 5), row(2, "b", 5), row(3, "b", 5)])
         self.assertEqual(self.decided([B], settled, 5), [4])
+        self.assertEqual(self.decided([Last("b", NOW - 10)], settled, 5), [4])
         self.assertEqual(self.decided([Count("b", NOW - 3, NOW)], settled, 5), [2, 3, 4])
         unsettled = Journal(BOOK, [row(4, "a", 5), row(2, "a", 5), row(3, "a", 5)])
         self.assertEqual(self.decided([A], unsettled, 7), [2, 3, 4])
@@ -123,6 +124,23 @@ class Needed(unittest.TestCase):
         later = Journal(BOOK, [*rows, row(5, "a", 5)])
         self.assertEqual(self.decided([question], later, 9), [4, 5])
 
+    def test_a_row_that_is_found_at_one_moment_alone(self):
+        journal = Journal(BOOK, [row(at, "b", at) for at in range(6)])
+        for h, ids in [(5, [2, 3, 4, 5]), (6, [3, 4, 5]), (7, [4, 5]), (8, [5])]:
+            self.assertEqual(self.decided([Last("b", NOW - 3)], journal, h), ids)
+
+    def test_looks_from_settled_rows_alone(self):
+        rows = [row(0, "b", 1), row(1, "a", 2), row(2, "b", 3), row(3, "a", 4), row(4, "b", 5)]
+        for more in (0, 1, 2, 3):
+            # At 8 the row of a at 2 is found, and later on the one at 4 alone.
+            question = Last("b", Last("a", NOW - 5) - more)
+            self.assertEqual(self.decided([question], Journal(BOOK, rows), 8), [0, 1, 2, 3, 4])
+            ids = [[2, 3, 4], [2, 3, 4], [0, 3, 4], [0, 2, 3, 4]][more]
+            self.assertEqual(self.decided([question], Journal(BOOK, rows), 9), ids)
+        rows = [row(0, "a", 1), row(1, "a", 3), row(2, "b", 4), row(3, "a", 5), row(4, "b", 6)]
+        self.assertEqual(self.decided([Last("a", Last("b", NOW - 5) - 3)], Journal(BOOK, rows), 9), [0, 1, 2, 3, 4])
+        self.assertEqual(self.decided([Last("a", Last("b", NOW - 5) - 3)], Journal(BOOK, rows), 11), [1, 3, 4])
+
     def test_counts(self):
         rows = [row(at, "b", at) for at in range(6)]
         journal = Journal(BOOK, rows)
@@ -137,7 +155,7 @@ class Needed(unittest.TestCase):
                 (Count("a", NOW - 1, NOW), 4, []), (Count("a", NOW - 4, NOW), 4, [0]), (Count("a", NOW - 3, NOW), 4, []),
                 (Count("c", NOW - 1, NOW), 4, [1]), (Count("c", NOW - 1, NOW), 5, []), (Count("c", NOW, NOW + 9), 4, []),
                 (Count("c", NOW - 9, NOW - 8), 4, [1]), (Count("c", NOW - 1, NOW - 1), 4, []), (Count("c", NOW - 1, NOW - 2), 4, []),
-                (Count("c", NOW - 9, NOW - 8), 8, [1]), (Count("c", NOW - 9, NOW - 8), 9, [])]:
+                (Count("c", NOW - 1, NOW + 4), 4, [1]), (Count("c", NOW - 9, NOW - 8), 8, [1]), (Count("c", NOW - 9, NOW - 8), 9, [])]:
             self.assertEqual(self.decided([question], moving, h), ids, (question.spelling, h))
 
     def test_all_keys_and_rows_taken_back(self):

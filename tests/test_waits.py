@@ -171,6 +171,7 @@ class JudgedWorlds(unittest.TestCase):
                 (World({"a": [(1, 1, 1)]}), World({"a": [row, (1, 1, 1)]}), 5, 5, 0, True),
                 (World({"a": [(1, 1, 2)]}), World({"a": [row, (1, 1, 1)]}), 5, 5, 0, False),
                 (World({"a": [(1, 2, 1)]}), World({"a": [row, (1, 1, 1)]}), 5, 5, 0, False),
+                (World({"a": [(1, 1, 1), (6, 7, 0)]}), World({"a": [row, (1, 1, 1)]}), 5, 5, 0, False),
                 (World({"a": [(1, 1, 1)], "b": [(6, 7, 0)]}), World({"a": [row, (1, 1, 1)]}), 5, 5, 0, False),
                 (b_row, World({"a": [(4, 3, 0)], "b": [row]}), 5, 5, 0, True), (b_row, World({"a": [(4, 3, 0)]}), 5, 5, 0, False)]:
             self.assertIs(is_unsettled(A, BOOK, wait, (known, final, now, k)), flag, (now, k, wait))
