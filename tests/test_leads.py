@@ -4,9 +4,11 @@ import random
 import unittest
 
 from asofhall.answers import value
+from asofhall.cases import first_case
 from asofhall.errors import BadMoment, BadTerm, NoPaper, TooMany
 from asofhall.leads import is_lead_paper, lead, lead_paper, reaching
 from asofhall.moments import Last, Next
+from asofhall.papers import farthest
 from asofhall.worlds import World
 from tests import models
 from tests.helpers import fails, not_integers, picture
@@ -71,6 +73,14 @@ class Leads(unittest.TestCase):
     def test_by_hand(self):
         for one, other, found in LEADS:
             self.assertEqual(self.checked(one, other), found, (one.spelling, other.spelling))
+
+    def test_never(self):
+        # No two terms come here; so the steps of one that has no answer are made by hand.
+        for steps in ([("answer", None), ("need",), ("end",)], [("answer", (0, 0)), ("lack",), ("end",)]):
+            self.assertEqual(farthest(steps, first_case(1, ())), NEVER)
+        steps = [("answer", (0, 3)), ("need",), ("answer", (0, 0)), ("need",), ("end",)]
+        self.assertEqual(farthest(steps, first_case(1, ())), ("most", 3))
+        self.assertEqual(farthest(steps, first_case(1, ((0, 0, -1),))), NEVER)
 
     def test_random_pairs(self):
         rng = random.Random(41)
