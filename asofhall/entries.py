@@ -6,6 +6,13 @@ from asofhall.kinds import are_integers, is_name, is_natural
 # taken back: then it does not stand, but its id is still used.
 TAKEN_BACK = ()
 
+# What stands behind the word of an entry of each kind, in order.
+FIELDS = {
+    "row": ("id", "stream", "key", "moment", "amount", "arrival"),
+    "fix": ("id", "moment", "amount", "arrival"),
+    "gone": ("id", "arrival"),
+}
+
 
 def is_entry(thing):
     """Tells whether the thing is an entry; its stream may be any name."""

@@ -4,7 +4,7 @@ from asofhall.amounts import Number
 from asofhall.answers import answered
 from asofhall.cases import first_case
 from asofhall.errors import BadJournal, BadMoment, BadName, BadQuestion
-from asofhall.goings import Standing, check_hearing, entries_to, first_free, known_behind, known_of
+from asofhall.goings import Standing, check_hearing, entries_to, first_free, known_behind
 from asofhall.journals import Journal
 from asofhall.kinds import is_integer, is_name
 from asofhall.moments import is_term
@@ -58,13 +58,13 @@ def check_final(question, journal, key, now, h):
 
 def told_now(question, journal, key, now):
     """The answer of the journal itself."""
-    told, _ = answered(question, Standing(known_of(journal), key), now)
+    told, _ = answered(question, Standing(journal.known(), key), now)
     return told
 
 
 def left_of(question, journal, key, now, h):
     """What is left of the case that the answer is another one than now, or None."""
-    rows = Standing(known_of(journal), key)
+    rows = Standing(journal.known(), key)
     settled = {}
     for stream in question.streams():
         free = first_free(journal.book, stream, h)

@@ -27,12 +27,6 @@ def check_hearing(journal, h):
         raise BadMoment(h)
 
 
-def known_of(journal):
-    """What is known of the rows of a journal, by their ids."""
-    _, known = walked(journal.book, journal.entries)
-    return known
-
-
 def known_behind(journal, h, thing):
     """What is known of rows behind the entries of a going on from h, or None if the thing is none.
 
@@ -62,7 +56,7 @@ def entries_to(journal, key, h, staying, added):
     new one for each (stream, moment, amount) that is added; none of these
     moments is settled at h.
     """
-    known = known_of(journal)
+    known = journal.known()
     entries = []
     for number, row in known.items():
         if row != TAKEN_BACK and row[1] == key and row[2] >= first_free(journal.book, row[0], h):

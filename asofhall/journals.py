@@ -82,6 +82,10 @@ class Journal:
                 found.append((row[2], number, row[3]))
         return sorted(found)
 
+    def known(self):
+        """What is known of the rows behind all entries, by their ids."""
+        return dict(self._known)
+
     def key_names(self):
         """The ascending list of the keys of all row entries."""
         return sorted(set([entry[3] for entry in self.entries if entry[0] == "row"]))

@@ -3,6 +3,9 @@
 LETTERS = "abcdefghijklmnopqrstuvwxyz"
 LONGEST_NAME = 8
 
+DIGITS = "0123456789"
+NOT_ZERO = "123456789"
+
 
 def is_integer(thing):
     """Tells whether the thing is an integer: True and False are none."""

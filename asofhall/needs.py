@@ -5,7 +5,7 @@ from asofhall.answers import answered
 from asofhall.books import check_streams
 from asofhall.entries import arrival_of
 from asofhall.errors import BadId, BadJournal, BadQuestion
-from asofhall.goings import Standing, check_hearing, entries_to, first_free, known_behind, known_of
+from asofhall.goings import Standing, check_hearing, entries_to, first_free, known_behind
 from asofhall.journals import Journal
 from asofhall.kinds import is_integer, is_natural, is_row
 from asofhall.moments import Last, Now, Shift, is_term
@@ -62,7 +62,7 @@ def check_needs(questions, journal, h):
 def needed(questions, journal, h):
     """The ascending list of the ids of the rows of all keys that are needed at h."""
     check_needs(questions, journal, h)
-    return needed_of(questions, journal.book, known_of(journal), h)
+    return needed_of(questions, journal.book, journal.known(), h)
 
 
 def needed_of(questions, book, known, h):
@@ -194,7 +194,7 @@ def touches(reach, low, high):
 def why_needed(questions, journal, h, number):
     """Entries, the index of a question and a moment that show why the row is needed, or None."""
     check_why(questions, journal, h, number)
-    known = known_of(journal)
+    known = journal.known()
     if not known.get(number):
         return None
     key = known[number][1]
@@ -220,7 +220,7 @@ def check_why(questions, journal, h, number):
 
 def shown_need(question, journal, h, key, number):
     """Entries and a moment above h that show why the question needs the row, or None."""
-    rows = Standing(known_of(journal), key)
+    rows = Standing(journal.known(), key)
     if isinstance(question, (Count, Total)):
         return shown_count(question, journal, rows, h, number)
     looks = looks_of(question)
@@ -284,7 +284,7 @@ def is_why(questions, journal, h, number, thing):
     entries, index, now = thing
     if not is_integer(index) or not 0 <= index < len(questions) or not is_integer(now) or now < h:
         return False
-    row = known_of(journal).get(number)
+    row = journal.known().get(number)
     known = known_behind(journal, h, entries)
     if not row or known is None:
         return False

@@ -17,8 +17,13 @@ def check_pair(one, other):
         raise BadTerm(one)
     if not is_term(other):
         raise BadTerm(other)
-    if one.looks + other.looks > MOST_LOOKS or one.choices + other.choices > MOST_CHOICES:
+    if not is_small_pair(one, other):
         raise TooMany()
+
+
+def is_small_pair(one, other):
+    """Tells whether both terms together are small enough to be asked about."""
+    return one.looks + other.looks <= MOST_LOOKS and one.choices + other.choices <= MOST_CHOICES
 
 
 def term_steps(term):

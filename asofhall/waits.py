@@ -42,8 +42,7 @@ def check_known(question, book):
     """Raises the error of a question that cannot be asked of the book."""
     if not isinstance(book, Book):
         raise BadBook(book)
-    for term in asked_terms(question):
-        check_small(term)
+    check_sizes(question)
     check_streams(question.streams(), book)
 
 
@@ -56,10 +55,11 @@ def asked_terms(question):
     return terms_of(question)
 
 
-def check_small(term):
-    """Raises TooMany if the term has too many looks or choices."""
-    if term.looks > MOST_LOOKS or term.choices > MOST_CHOICES:
-        raise TooMany()
+def check_sizes(question):
+    """Raises TooMany if one of the terms that are asked has too many looks or choices."""
+    for term in asked_terms(question):
+        if term.looks > MOST_LOOKS or term.choices > MOST_CHOICES:
+            raise TooMany()
 
 
 def least_of(question, book):

@@ -2,10 +2,9 @@
 
 from asofhall.amounts import Count, Gap, Number, Total, is_question
 from asofhall.errors import BadQuestion, BadText, TooMany
-from asofhall.kinds import LETTERS, LONGEST_NAME, is_integer
+from asofhall.kinds import DIGITS, LETTERS, LONGEST_NAME, is_integer
 from asofhall.moments import Either, Last, Later, Next, Now, Shift
 
-DIGITS = "0123456789"
 LONGEST_NUMBER = 60
 
 # What a text may go on with at a place, and what stands behind it. A word in

@@ -3,9 +3,19 @@
 from asofhall.amounts import Amount, Count, Gap, Number, Total
 from asofhall.books import Book
 from asofhall.errors import BadName, HallError, TooMany
+from asofhall.forms import Form
+from asofhall.halls import Hall
 from asofhall.journals import Journal
 from asofhall.moments import Last, Next, Now, Term
+from asofhall.offices import Office
+from asofhall.plans import Plan
 from asofhall.worlds import World
+
+FIELDS = {
+    "row": ("id", "stream", "key", "moment", "amount", "arrival"),
+    "fix": ("id", "moment", "amount", "arrival"),
+    "gone": ("id", "arrival"),
+}
 
 
 def nested(inner, depth):
@@ -13,6 +23,19 @@ def nested(inner, depth):
     for _ in range(depth):
         inner = [inner]
     return inner
+
+
+def shape(*pieces):
+    """A shape: "$id" is the field of this word, any other text a mark."""
+    return tuple(("field", piece[1:]) if piece[:1] == "$" else ("mark", piece) for piece in pieces)
+
+
+def plain_form():
+    """A form of lines such as "row 0 a k 1 2 3"; no line has two readings."""
+    shapes = []
+    for word, fields in FIELDS.items():
+        shapes.append(shape(word, *[piece for field in fields for piece in (" ", "$" + field)]))
+    return Form(*shapes)
 
 
 def odd_values():
@@ -32,6 +55,7 @@ def odd_values():
         book, Journal(book), Journal(book, [row]), World({}), World({"a": [(0, 0, 0)]}),
         Now(), Now() + 1, Last("a", Now()), Next("a", Now()), Now() | Now(), Now().later(Now()), Now().earlier(Now()),
         Number("a", Now()), Count("a", Now(), Now()), Total("a", Now(), Now()), Gap(Now(), Now()),
+        plain_form(), Hall(book, plain_form()), Office(book), Plan([Now()]),
         BadName("a"), TooMany(),
     ]
 

@@ -25,6 +25,14 @@ LISTED = {
     "finals": {"final": None, "changing": None, "is_changing": None},
     "needs": {"is_keepable": None, "needed": None, "why_needed": None, "is_why": None},
     "keepers": {"Keeper": ["feed", "hear", "held", "answer", "copy"]},
+    "plans": {"steps": None, "Plan": ["kept", "merges", "run", "why", "classes"]},
+    "bulletins": {"bulletins": None},
+    "servers": {"Server": ["feed", "hear", "told", "unclosed", "undo"]},
+    "offices": {"Office": ["writers", "begin", "row", "fix", "gone", "drop", "undo", "draft", "close"]},
+    "forms": {"Form": ["shape", "__eq__"], "is_single": None, "twice": None},
+    "lines": dict.fromkeys(("write_line", "readings", "read_line", "write_journal", "read_journal")),
+    "replays": {"cut": None, "joined": None, "by_keys": None, "replay": None},
+    "halls": {"Hall": ["line", "ask", "hear", "undo", "trial", "asks", "ticks", "told", "lines", "plan", "same"]},
 }
 
 

@@ -150,7 +150,7 @@ class Language(unittest.TestCase):
             if isinstance(node, ast.stmt):
                 self.assertIsInstance(node, STATEMENTS)
             if isinstance(node, ast.FunctionDef):
-                self.assertEqual(node.decorator_list, [])
+                self.assertIn([ast.unparse(one) for one in node.decorator_list], ([], ["property"]))
                 self.assertIsNone(node.returns)
             if isinstance(node, ast.ExceptHandler):
                 self.assertIsNotNone(node.type)
@@ -167,6 +167,32 @@ class Language(unittest.TestCase):
                 self.assertEqual(len(names), len(set(names)))
                 for name in names:
                     self.assertTrue(not name.startswith("__") or name in DUNDERS, name)
+
+    def test_l5_properties(self):
+        nodes = [node for name in files() for node in ast.walk(ast.parse(text_of(name)))]
+        stored = {node.attr for node in nodes if isinstance(node, ast.Attribute) and isinstance(node.ctx, ast.Store)}
+        functions = [node for node in nodes if isinstance(node, ast.FunctionDef)]
+        properties = {node.name for node in functions if node.decorator_list}
+        self.assertFalse(properties & stored)
+        self.assertFalse(properties & {node.name for node in functions if not node.decorator_list})
+        for node in functions:
+            if node.decorator_list:
+                self.assertRegex(ast.unparse(node.body[-1]), r"^return list\(self\.[a-z_]+\)$")
+                self.assertEqual([one.arg for one in node.args.args], ["self"])
+
+    @for_each_file
+    def test_l6_finally(self, text, tree):
+        for node in ast.walk(tree):
+            for one in getattr(node, "finalbody", []):
+                self.assertRegex(ast.unparse(one), r"^self\.\w+ = \w+$")
+
+    @for_each_file
+    def test_l7_stars_in_calls(self, text, tree):
+        for node in ast.walk(tree):
+            if isinstance(node, ast.Call):
+                for one in node.args:
+                    if isinstance(one, ast.Starred):
+                        self.assertIsInstance(one.value, (ast.Name, ast.Attribute, ast.List, ast.Tuple))
 
     @for_each_file
     def test_l7_expressions(self, text, tree):
