@@ -148,6 +148,29 @@ class Single(unittest.TestCase):
         # Each kind alone can be read one way alone.
         self.doubtful(7, fix=shape("$id", "!", "$moment", "!", "$amount", "!", "$arrival"), gone=shape("$id", "!1!1!", "$arrival"))
 
+    def test_what_may_stand_in_the_place_of_a_field(self):
+        # A gone has a mark where a fix or a row has a field: they meet if the mark is what the field may be.
+        numbers = ["0", "1", "9", "10", "99", "100", "102"], ["-1", "-9", "-10", "-99"], ["-0", "00", "01", "-", "--1", "1-", "-01", "+1", "1_0"]
+        for field in FIELDS["fix"]:
+            others = ["$" + word for word in FIELDS["fix"] if word != field]
+            for at, texts in enumerate(numbers):
+                for text in texts:
+                    fix = shape(others[0], "!", "$" + field, "!", others[1], "!", others[2])
+                    gone = shape("$id", "!", text, "!1!", "$arrival")
+                    if at == 0 or (at == 1 and field != "id"):
+                        self.doubtful(len(text) + 6, fix=fix, gone=gone)
+                    else:
+                        self.single(fix=fix, gone=gone)
+        for field, other in (("$stream", "$key"), ("$key", "$stream")):
+            row = shape("$id", "!", field, "!", other, "!", "$moment", "!", "$amount", "!", "$arrival")
+            for texts, is_doubtful in [(["a", "z", "mm", "abcdefgh"], True), (["A", "a1", "abcdefghi", "a b", "`", "{", "a-", "1"], False)]:
+                for text in texts:
+                    gone = shape("$id", "!", text[:6], *([text[6:]] if text[6:] else []), "!a!1!", "1!", "$arrival")
+                    if is_doubtful:
+                        self.doubtful(len(text) + 10, row=row, gone=gone)
+                    else:
+                        self.single(row=row, gone=gone)
+
     def test_names_have_at_most_eight_letters(self):
         rest = ("$moment", "=", "$amount", "=", "$arrival")
         row = shape("$stream", "$id", "$key", "=", *rest)

@@ -250,6 +250,11 @@ class Same(unittest.TestCase):
             other = filled()
             deed(other)
             self.assertIs(hall.same(other), False)
+        # No bulletin tells of the tick.
+        silent = Hall(BOOK, FORM)
+        silent.hear(5)
+        self.assertIs(silent.same(Hall(BOOK, FORM)), False)
+        self.assertIs(Hall(BOOK, FORM).same(silent), False)
         # Asks that are put at another place between the ticks have other bulletins.
         one, other = Hall(BOOK, FORM), Hall(BOOK, FORM)
         one.ask("x", "last a at now", "k", 1)

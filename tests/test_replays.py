@@ -106,6 +106,7 @@ class Keys(unittest.TestCase):
         self.assertEqual(found["zz"].entries, (row(0, "a", 1, key="zz"), ("gone", 0, 2)))
         found.clear()
         self.assertEqual(len(by_keys(journal)), 3)
+        fails(self, BadJournal, {"value": None}, by_keys, None)
 
     def test_joined_again_they_are_as_the_journal_itself(self):
         rng = random.Random(162)
