@@ -1,5 +1,6 @@
 """Final answers of a journal [37]."""
 
+import itertools
 import random
 import unittest
 
@@ -167,6 +168,47 @@ class Decided(unittest.TestCase):
                     self.assertFalse(changed and flags[now])
         self.assertGreater(min(told.values()), 400)
 
+    def test_looks_from_rows_that_may_come_to_settled_ones(self):
+        # A row of a may come at the moment now alone, and all of b up to it is settled.
+        book = Book({"a": 1, "b": 0})
+        for moments, now, question, flag in [
+                # From 10, which is where the row of a would be, too, the row at 10 is found.
+                ((9, 10), 10, Last("b", (Next("a", NOW - 1) | NOW).earlier(NOW)), True),
+                ((9, 11), 10, Last("b", (Next("a", NOW - 1) | NOW).earlier(NOW)), True),
+                ((9, 10), 10, Last("b", A | (NOW - 1)), False), ((8, 9), 10, Last("b", A | (NOW - 1)), True),
+                # From 9 the row at 9 is found, from 10 the one at 10 or at 11.
+                ((9, 10), 10, Next("b", A | (NOW - 1)), False), ((9, 11), 10, Next("b", A | (NOW - 1)), False),
+                ((8, 10), 10, Next("b", A | (NOW - 1)), True), ((8, 11), 10, Next("b", A | (NOW - 1)), True)]:
+            for h in (10, 11):
+                rows = [row(number, "b", moment, moment) for number, moment in enumerate(moments) if moment <= h]
+                if len(rows) == 2 and h == 10:
+                    self.assertIs(self.decided(question, Journal(book, rows), "k", now, h), flag, moments)
+                elif h == 11:
+                    # Now all of a up to 10 is settled, too.
+                    self.assertIs(self.decided(question, Journal(book, rows), "k", now, h), True, moments)
+
+    def test_numbers_of_settled_rows_with_other_amounts(self):
+        book = Book({"a": 1, "b": 0})
+        question = Number("b", A | (NOW - 1))
+        for amounts, flag in [((5, 6), False), ((5, 5), True), ((0, 1), False), ((1, 0), False), ((0, 0), True)]:
+            rows = [row(number, "b", 8 + number, 8 + number, amount) for number, amount in enumerate(amounts)]
+            self.assertIs(self.decided(question, Journal(book, rows), "k", 9, 9), flag)
+            self.assertIs(self.decided(question, Journal(book, rows), "k", 9, 10), True)
+
+    def test_as_all_worlds_near_the_moment_tell(self):
+        rng = random.Random(62)
+        told = {True: 0, False: 0}
+        for _ in range(400):
+            question, lates = two_looks(rng), {"a": rng.choice((0, 1, 2, 4)), "b": rng.choice((0, 1, 3))}
+            entries = models.random_entries(rng, lates, rng.randrange(12))
+            journal = Journal(Book(lates), entries)
+            h = (journal.latest() or 0) + rng.randrange(3)
+            now = h + rng.randrange(-9, 4)
+            flag = self.decided(question, journal, "k", now, h)
+            self.assertIs(flag, not other_answers(question, lates, entries, now, h))
+            told[flag] += 1
+        self.assertGreater(min(told.values()), 100)
+
     def test_things_of_any_kind_and_size(self):
         journal = Journal(BOOK, [row(0, "a", 5, 6)])
         deep = nested((), 100000)
@@ -174,6 +216,42 @@ class Decided(unittest.TestCase):
             self.assertIs(is_changing(A, journal, "k", 5, 6, thing), False)
         for thing in odd_values():
             self.assertIs(is_changing(A, journal, "k", 5, 6, [("gone", 0, 7), thing]), False)
+
+
+def two_looks(rng):
+    """A moment term or a Number that may be asked, mostly with two looks."""
+    def moved(term):
+        return term + rng.choice((0, 0, 0, 1, -1, 2, -2, 3, -3, 5, -5))
+
+    def look(term):
+        return moved(rng.choice((Last, Last, Next))(rng.choice("ab"), term))
+
+    one, other = look(moved(NOW)), look(moved(NOW))
+    word = rng.randrange(10)
+    if word < 2:
+        return Number(rng.choice("ab"), (one, moved(NOW))[word])
+    return (look(one), look(one), moved(one.later(other)), one.earlier(other), one | other, one.earlier(moved(NOW)),
+            (one | moved(NOW)).later(other), Number(rng.choice("ab"), one))[word - 2]
+
+
+def other_answers(question, lates, entries, now, h):
+    """Tells whether the answer is another one where at most two rows stand at moments that are not settled."""
+    told = models.answer_behind(question, entries, "k", now)
+    free = {stream: h + 1 - lates[stream] for stream in "ab"}
+    settled = {"a": [], "b": []}
+    for stream, key, moment, number, amount in models.standing(entries):
+        if key == "k" and moment < free[stream]:
+            settled[stream].append((moment, number, amount))
+    places = [(stream, free[stream] + more) for stream in "ab" for more in range(18)]
+    for many in range(3):
+        for chosen in itertools.combinations(places, many):
+            for amounts in itertools.product((0, 1), repeat=many if isinstance(question, Number) else 0):
+                rows = {stream: list(found) for stream, found in settled.items()}
+                for at, (stream, moment) in enumerate(chosen):
+                    rows[stream].append((moment, 1000 + at, amounts[at] if amounts else 0))
+                if models.answer(question, rows, now) != told:
+                    return True
+    return False
 
 
 def random_asked(rng):

@@ -141,6 +141,21 @@ class Needed(unittest.TestCase):
         self.assertEqual(self.decided([Last("a", Last("b", NOW - 5) - 3)], Journal(BOOK, rows), 9), [0, 1, 2, 3, 4])
         self.assertEqual(self.decided([Last("a", Last("b", NOW - 5) - 3)], Journal(BOOK, rows), 11), [1, 3, 4])
 
+    def test_rows_to_look_from_that_cannot_be_found(self):
+        # The rows of b at 3 and at 7 are never found, so a row of c must be shown from the one behind them.
+        book = Book({"a": 0, "b": 0, "c": 0})
+        for moments, more in [((2, 10, 3, 9, 15), 0), ((6, 14, 7, 13, 20), -4)]:
+            rows = [row(at, "aabbb"[at], moment, 30) for at, moment in enumerate(moments)]
+            rows += [row(5, "c", 2, 30), row(6, "c", 20, 30)]
+            question = Last("c", Last("b", Last("a", NOW - 25)) + more)
+            rows = sorted([(*one[:6], one[4]) for one in rows], key=lambda one: one[6])
+            journal = Journal(book, rows)
+            for h in (30, 31, 32):
+                ids = self.decided([question], journal, h)
+                self.assertIn(5, ids)
+                self.assertNotIn(2, ids)
+                self.assertIn(3, ids)
+
     def test_counts(self):
         rows = [row(at, "b", at) for at in range(6)]
         journal = Journal(BOOK, rows)
@@ -213,7 +228,7 @@ class Judged(unittest.TestCase):
         other = [row(9, "b", 6, key="l")]
         for number, thing, flag in [
                 (0, ([], 0, 7), True), (0, ([], 0, 8), False), (0, ([], 0, 4), False), (0, ([], 0, 5), True), (0, ([], 1, 5), False),
-                (0, ([], 2, 5), False), (0, ([], -2, 5), False), (0, ([], False, 5), False), (0, ([], 0, True), False),
+                (0, ([], 2, 5), False), (0, ([], -2, 5), False), (2, ([], -1, 5), False), (0, ([], False, 5), False), (0, ([], 0, True), False),
                 (0, ((), 0, 5), False), (0, [[], 0, 5], False), (0, ([], 0), False), (0, ([], 0, 5, 5), False), (1, ([], 0, 8), True),
                 (1, ([], 0, 7), False), (1, (other, 0, 8), True), (3, (other, 0, 8), True), (3, (other, 0, 9), False),
                 (1, ([row(9, "b", 6)], 0, 8), True), (1, ([row(9, "b", 6)], 0, 9), False), (1, ([row(9, "b", 6)], 0, 5), False),

@@ -55,6 +55,7 @@ class ByHand(unittest.TestCase):
                 {"none_first": (FINE, ("beside", 1, False, (ring(0, 1),)))}, {"none_first": (FINE, ("beside", 1, 0, [ring(0, 1)]))},
                 {"none_first": (FINE, ("beside", 1, 0, (FINE,)))}, {"none_first": (FINE, ("cases", ()))},
                 {"none_then": FINE}, {"none_then": ring(0)}, {"none_then": ("beside", 1, 1, (ring(0),))},
+                {"none_then": ("beside", 1, -1, (ring(0, 1),))},
                 {"none_then": ("beside", 1, 1, (ring(0, 2),))}, {"none_then": ("beside", 1, 1, (("beside", 1, 1, (ring(0, 1),)),))},
                 {"same": ("cases", (ring(2),))}, {"same": ("cases", (ring(2),) * 3)}, {"same": ring(0)}, {"same": FINE},
                 {"same": ("cases", (ring(2), FINE))}, {"same": ("cases", (ring(2), ring(0)))},

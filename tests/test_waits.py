@@ -219,6 +219,15 @@ class Papers(unittest.TestCase):
             self.assertIs(is_wait_paper(B, BOOK, 0, wrong), False)
         self.assertIs(is_wait_paper(A, BOOK, 0, thing), False)
 
+    def test_a_known_row_may_be_as_old_as_its_stream_is_late_less_one(self):
+        # The facts of a known row alone are a ring for a lateness of 0 only.
+        for late, flag in [(0, True), (1, False), (2, False)]:
+            book = Book({"a": late})
+            head, (none, found, _) = wait_paper(A, book, late)
+            thing = (head, (none, found, ("ring", (1, 2))))
+            self.assertIs(is_wait_paper(A, book, late, thing), flag)
+            self.assertIs(judge(wait_place(A, book, late), thing), flag)
+
     def test_against_the_model(self):
         rng = random.Random(53)
         for _ in range(120):
